@@ -1,0 +1,1 @@
+"""Orderless: programs of rules without an order."""

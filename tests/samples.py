@@ -1,0 +1,121 @@
+"""Programs, values and helpers that several tests use."""
+
+import random
+import unittest
+
+ADD = ("add", 1, (("x", ("+", "x", 1)),))
+TWICE = ("twice", 1, (("x", ("*", "x", 2)),))
+SEE = ("see", ("<", 2, "x"), (("big", 1),))
+CELLS = (("big", 0, 0, 1, False, True, 0), ("x", 0, 0, 3, True, False, 0))
+PROG = (CELLS, (ADD, SEE, TWICE), (), 1)
+
+TABLE = (("i", 0, 0, 3, True, False, 0), ("t", 2, 0, 5, False, True, 1))
+MOVE = ("move", ("<", "i", 2), ((("t", "i"), ("+", ("at", "t", "i"), 1)),))
+SAME = ("same", 1, ((("t", 0), 1), (("t", "i"), 1)))
+
+# A plain input, a table of inputs, a hidden cell and a shown table; ranges below and above zero.
+MIXED = (
+    ("a", 0, -2, 1, True, False, -2),
+    ("b", 2, 3, 4, True, True, 3),
+    ("c", 0, -1, 1, False, False, 0),
+    ("d", 1, 0, 1, False, True, 1),
+)
+
+LONG = 10 ** 60 - 1
+
+# One value of each kind of "any value", none of which is an expression, a rule or a cell row.
+ODD_VALUES = (
+    None, True, False, "", "X", "a b", "abcdefghi", "a1", "x\n", (), (1,), ("x",), [], [1], ["x", 1], ((),),
+    ("x", "y"), [("x", 1)], ("add", 1, ()), (None, None, None), ("at",), ("+",), ("not",), (True, 1, 2),
+)
+
+
+class Case(unittest.TestCase):
+    """A test case that looks at the attributes of errors."""
+
+    def refuses(self, kind, told, function, *parts, **named):
+        """Calling raises exactly this error, with these attributes."""
+        with self.assertRaises(kind) as caught:
+            function(*parts, **named)
+        self.assertIs(type(caught.exception), kind)
+        self.same(vars(caught.exception), told)
+
+    def same(self, one, other):
+        """Two values are equal, with equal kinds of all their parts."""
+        self.assertEqual(repr(one), repr(other))
+        self.assertEqual(one, other)
+
+
+class Fails(Exception):
+    """An expression fails."""
+
+
+def slow_value(cells, state, expression, looks):
+    """A second evaluator, written apart: raises Fails, and adds the written names of cells to looks."""
+    places = {}
+    for name, size, *_ in cells:
+        for key in range(size) if size else (None,):
+            places[(name, key)] = len(places)
+
+    def look(name, key):
+        if (name, key) not in places:
+            raise Fails
+        looks.append(places[(name, key)])
+        return state[places[(name, key)]]
+
+    def value(e):
+        if isinstance(e, int):
+            return e
+        if isinstance(e, str):
+            return look(e, None)
+        op, *parts = e
+        if op == "at":
+            return look(parts[0], value(parts[1]))
+        lazy = {
+            "and": lambda: int(bool(value(parts[0]) and value(parts[1]))),
+            "or": lambda: int(bool(value(parts[0]) or value(parts[1]))),
+            "if": lambda: value(parts[1]) if value(parts[0]) else value(parts[2]),
+        }
+        if op in lazy:
+            return lazy[op]()
+        values = [value(part) for part in parts]
+        return {
+            "not": lambda p: int(not p), "neg": lambda p: -p, "+": lambda p, q: p + q, "-": lambda p, q: p - q,
+            "*": lambda p, q: p * q, "least": lambda p, q: sorted((p, q))[0], "most": lambda p, q: sorted((p, q))[1],
+            "=": lambda p, q: int(p == q), "<": lambda p, q: int(p < q), "<=": lambda p, q: int(p <= q),
+            "div": lambda p, q: (p - p % q) // q, "mod": lambda p, q: p - q * (p // q),
+        }[op](*values)
+
+    return value(expression)
+
+
+def some_expression(chance, cells, depth):
+    """An expression that fits the cells, made by a given source of chance."""
+    if depth == 0 or chance.random() < 0.15:
+        plain = [row[0] for row in cells if row[1] == 0]
+        return chance.choice([chance.randint(-3, 3)] + plain)
+    tables = [row[0] for row in cells if row[1] > 0]
+    op = chance.choice(("at", "not", "neg", "+", "-", "*", "least", "most", "=", "<", "<=", "and", "or",
+                        "div", "mod", "if"))
+    if op == "at":
+        return ("at", chance.choice(tables), some_expression(chance, cells, depth - 1)) if tables else 1
+    if op in ("div", "mod"):
+        return (op, some_expression(chance, cells, depth - 1), chance.randint(1, 3))
+    many = {"not": 1, "neg": 1, "if": 3}.get(op, 2)
+    return (op,) + tuple(some_expression(chance, cells, depth - 1) for _ in range(many))
+
+
+def some_rule(chance, cells, depth):
+    """A rule that fits the cells, made by a given source of chance."""
+    assignments = []
+    for _ in range(chance.randint(1, 3)):
+        row = chance.choice(cells)
+        target = row[0] if row[1] == 0 else (row[0], some_expression(chance, cells, depth - 1))
+        assignments.append((target, some_expression(chance, cells, depth)))
+    guard = chance.choice((1, some_expression(chance, cells, depth)))
+    return ("r", guard, tuple(assignments))
+
+
+def chance_of(seed):
+    """A source of chance that is the same in every run."""
+    return random.Random(seed)

@@ -1,0 +1,91 @@
+"""The interface: names, parameters, and what is defined in which file and class."""
+
+import importlib
+import inspect
+
+from tests.samples import Case
+
+FUNCTIONS = {
+    "kinds": {
+        "is_integer": "(thing)", "is_number": "(thing)", "is_name": "(thing)", "is_cell_row": "(thing)",
+        "is_expression": "(thing)", "is_rule": "(thing)",
+    },
+    "fitting": {"fits_expression": "(cells, thing, *, only_inputs=False)", "fits_rule": "(cells, thing)"},
+    "programchecker": {"lets_program": "(thing)"},
+    "cells": {"cell_names": "(cells)", "cell_ranges": "(cells)", "cell_index": "(cells, name, *, key=None)"},
+    "expressions": {"value_in": "(cells, state, expression)", "looked_at": "(cells, state, expression)"},
+    "rules": {"assigned": "(cells, rule, state)", "behind": "(cells, rule, state)", "looks_of": "(cells, rule, state)"},
+    "ruleclasses": {
+        "cell_row": "(name, low, high, *, size=0, first=None, is_input=False, is_shown=False)",
+        "program_of": "(cells, *rules, pairs=(), starts=1)",
+    },
+    "programtexts": {
+        "expression_text": "(expression)", "cell_text": "(row)", "rule_text": "(rule)", "program_text": "(program)",
+    },
+    "programreadings": {
+        "expression_read": "(text, *, line=0, field=0)", "cell_read": "(text, *, line=0, field=0)",
+        "rule_read": "(text, *, line=0, field=0)", "program_read": "(text)",
+    },
+    "states": {
+        "count_states": "(program)", "all_states": "(program)", "state_number": "(program, state)",
+        "state_at": "(program, number)", "starts_of": "(program)", "is_start": "(program, thing)",
+        "start_of": "(program, **inputs)",
+    },
+    "moves": {"moves_of": "(program, rule)"},
+    "effects": {"reads_of": "(program, rule)", "changes_of": "(program, rule)"},
+}
+
+METHODS = {
+    "expressionclasses": {
+        "Expression": {
+            "form": "(self)", "__call__": "(self, cells, state)", "equals": "(self, other)", "below": "(self, other)",
+            "up_to": "(self, other)", "least": "(self, other)", "most": "(self, other)", "rest": "(self, n)",
+            "__add__": "(self, other)", "__sub__": "(self, other)", "__mul__": "(self, other)",
+            "__floordiv__": "(self, other)", "__and__": "(self, other)", "__or__": "(self, other)",
+            "__invert__": "(self)", "__neg__": "(self)", "__eq__": "(self, other)", "__str__": "(self)",
+        },
+        "Formed": {"__init__": "(self, form)", "read": "(text)"},
+        "Cell": {"__init__": "(self, name)"},
+        "Choice": {"__init__": "(self, test, one, other)"},
+        "Clamped": {"form": "(self)"},
+        "Scaled": {"form": "(self)"},
+        "ClampedCell": {},
+        "ScaledCell": {},
+        "Gauge": {},
+        "Lever": {},
+        "Table": {"__init__": "(self, name)", "__getitem__": "(self, at)"},
+    },
+    "ruleclasses": {
+        "Rule": {
+            "__init__": "(self, name, *assignments, guard=1)", "setting": "(name, *, guard=1, **values)",
+            "read": "(text)", "form": "(self)", "fits": "(self, cells)", "assigned": "(self, cells, state)",
+            "__call__": "(self, cells, state)", "__contains__": "(self, x)", "__len__": "(self)",
+            "__eq__": "(self, other)", "__str__": "(self)",
+        },
+    },
+}
+
+
+class InterfaceTest(Case):
+    def test_functions(self):
+        for module, functions in FUNCTIONS.items():
+            found = importlib.import_module(f"orderless.{module}")
+            for name, parameters in functions.items():
+                self.assertEqual(str(inspect.signature(getattr(found, name))), parameters, name)
+                self.assertEqual(getattr(found, name).__module__, found.__name__)
+
+    def test_classes(self):
+        for module, classes in METHODS.items():
+            found = importlib.import_module(f"orderless.{module}")
+            for name, methods in classes.items():
+                one = getattr(found, name)
+                self.assertEqual(one.__module__, found.__name__)
+                for method, parameters in methods.items():
+                    self.assertIn(method, vars(one), name)
+                    self.assertEqual(str(inspect.signature(getattr(one, method))), parameters, (name, method))
+
+    def test_class_methods(self):
+        from orderless.expressionclasses import Formed
+        from orderless.ruleclasses import Rule
+        for one, name in ((Formed, "read"), (Rule, "read"), (Rule, "setting")):
+            self.assertIsInstance(vars(one)[name], classmethod)
