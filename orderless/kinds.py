@@ -82,8 +82,8 @@ def is_expression(thing):
 
 
 def as_expression(target):
-    """The expression that stands for the cell of a target, by kind any pair."""
-    if isinstance(target, tuple) and len(target) == 2:
+    """The expression that stands for the cell of a target."""
+    if isinstance(target, tuple):
         return ("at", target[0], target[1])
     return target
 

@@ -110,6 +110,8 @@ class RuleTest(Case):
         for name, right in (("x", True), ("t", True), ("y", False), ("u", False), ("v", False), ("g", False), ("r", False),
                             ("z", False)):
             self.assertIs(name in rule, right)
+        longer = Rule("r", (Cell("big"), 1), (Table("tab")["i"], 1))
+        self.same([name in longer for name in ("big", "tab", "b", "t", "bigger", "i")], [True, True, False, False, False, False])
 
     def test_equality(self):
         add = Rule("add", (X, X + 1))
