@@ -1,4 +1,8 @@
-"""What can be seen mechanically of the rules of ../shared/LANGUAGE.md; the numbers are those of the rules."""
+"""What can be seen mechanically of the rules of ../shared/LANGUAGE.md; the numbers are those of the rules.
+
+In some points this is stricter than the rules: what they allow under conditions, and the package does not use, is
+refused here instead of looking at the conditions.
+"""
 
 import ast
 import builtins
