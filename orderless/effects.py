@@ -1,43 +1,49 @@
 """The cells that a rule reads, and those that it changes, over all states."""
 
-from orderless.cells import cell_ranges
 from orderless.lookup import rule_named
 from orderless.rules import assigned
-from orderless.states import all_states
+from orderless.states import all_states, cell_steps, with_low_value
 
 
 def reads_of(program, rule):
     """The ascending tuple of the indexes of the cells that a rule reads."""
-    entries = _entries_by_state(program, rule)
-    ranges = cell_ranges(program[0])
-    return tuple([index for index, (low, _) in enumerate(ranges) if _reads(entries, index, low)])
+    entries = entries_of(program, rule)
+    steps = cell_steps(program)
+    return tuple([index for index, (step, many) in enumerate(steps) if reading_pair(entries, step, many) is not None])
 
 
 def changes_of(program, rule):
     """The ascending tuple of the indexes of the cells that a rule changes."""
-    found = _entries_by_state(program, rule)
+    entries = entries_of(program, rule)
+    states = list(all_states(program))
     changed = []
-    for state, entries in found.items():
-        if entries is not None:
-            changed = changed + [index for index, value in entries if state[index] != value]
+    for state, assigns in zip(states, entries):
+        changed = changed + changed_cells(state, assigns)
     return tuple(sorted(set(changed)))
 
 
-def _entries_by_state(program, rule):
-    """A dict of what the rule assigns in each state."""
+def entries_of(program, rule):
+    """A tuple of what the rule assigns in each state, in ascending order; None where it rests."""
     found = rule_named(program, rule)
     states = list(all_states(program))
-    return {state: assigned(program[0], found, state) for state in states}
+    return tuple([assigned(program[0], found, state) for state in states])
 
 
-def _reads(entries, index, low):
-    """Whether a rule reads a cell.
+def changed_cells(state, assigns):
+    """A list of the indexes of the cells that get another value in a state; nothing if the rule rests."""
+    if assigns is None:
+        return []
+    return [index for index, value in assigns if state[index] != value]
+
+
+def reading_pair(entries, step, many):
+    """The numbers of two states that show that a rule reads a cell, or None; step and many as in cell_steps.
 
     If it assigns different things in two states that differ in this cell only, one of them differs from what it
     assigns where the cell has its value low. So comparing with low alone finds each cell that is read.
     """
-    for state in entries:
-        lowered = state[:index] + (low,) + state[index + 1:]
-        if entries[state] != entries[lowered]:
-            return True
-    return False
+    for number, assigns in enumerate(entries):
+        low_one = with_low_value(number, step, many)
+        if assigns != entries[low_one]:
+            return (low_one, number)
+    return None

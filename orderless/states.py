@@ -39,6 +39,25 @@ def state_at(program, number):
     return tuple(values[::-1])
 
 
+def cell_steps(program):
+    """A tuple of pairs (step, many), one for each cell.
+
+    If the value of the cell is greater by 1, the number of the state is greater by step; the cell has many values.
+    """
+    steps = []
+    step = 1
+    for low, high in cell_ranges(program[0])[::-1]:
+        many = high - low + 1
+        steps.append((step, many))
+        step = step * many
+    return tuple(steps[::-1])
+
+
+def with_low_value(number, step, many):
+    """The number of the state that has the value low in a cell, and else the values of the state with a number."""
+    return number - number // step % many * step
+
+
 def starts_of(program):
     """A generator of all starts, ascending."""
     for number in range(count_states(program)):

@@ -3,6 +3,8 @@
 import random
 import unittest
 
+from orderless.errors import InvalidPaper, UnknownRule
+
 ADD = ("add", 1, (("x", ("+", "x", 1)),))
 TWICE = ("twice", 1, (("x", ("*", "x", 2)),))
 SEE = ("see", ("<", 2, "x"), (("big", 1),))
@@ -20,6 +22,25 @@ MIXED = (
     ("c", 0, -1, 1, False, False, 0),
     ("d", 1, 0, 1, False, True, 1),
 )
+
+# A table as in TABLE, but with fewer values, and a hidden cell with one value only.
+SMALL = (("i", 0, 0, 1, True, False, 0), ("t", 2, -1, 1, False, True, 0), ("u", 0, 0, 0, False, False, 0))
+
+SHOWN = (("p", 0, 0, 2, True, True, 0), ("q", 0, -1, 1, False, True, 1))
+
+PAIRED = (CELLS, (ADD, SEE, TWICE), (("add", "see"),), 1)
+CHAIN = (CELLS, (ADD, SEE, TWICE), (("add", "twice"), ("twice", "see")), 1)
+TABLES = (TABLE, (MOVE, SAME), (), 1)
+NOTHING = ((), (), (), 1)
+
+
+def free_rules(many):
+    """Rules a, b and so on: each keeps in x the digits of those that were done, up to two rules back."""
+    return tuple((name, 1, (("x", ("mod", ("+", ("*", "x", 3), k + 1), 9)),)) for k, name in enumerate("abcdef"[:many]))
+
+
+NINE = (("x", 0, 0, 8, True, True, 0),)
+FREE = (NINE, free_rules(6), (), 1)
 
 LONG = 10 ** 60 - 1
 
@@ -44,6 +65,40 @@ class Case(unittest.TestCase):
         """Two values are equal, with equal kinds of all their parts."""
         self.assertEqual(repr(one), repr(other))
         self.assertEqual(one, other)
+
+
+    def unknown(self, function, program, many, *more):
+        """A function of a program and of so many names tells the first name, place by place, that is no rule."""
+        known = [rule[0] for rule in program[1]][:1] * many
+        for k in range(many):
+            for name in ("x", "big", "", "ad", "adds", "ADD"):
+                names = known[:k] + [name] + ["other"] * (many - k - 1)
+                self.refuses(UnknownRule, {"name": name}, function, program, *names, *more)
+
+    def verdict(self, function, *parts):
+        """What a checker returns, or the pair of the attributes of its error."""
+        try:
+            return ("accepted", function(*parts))
+        except InvalidPaper as error:
+            return (error.word, error.at)
+
+
+OTHER_PARTS = (None, True, False, -1, 0, 1, 2, 3, 10 ** 59, "x", "add", "see", (), [], (0,), (0, 1))
+
+
+def changed_once(value):
+    """Values that are got by changing a value, or one part of it at any depth."""
+    yield from OTHER_PARTS
+    if type(value) is int:
+        yield from (value - 1, value + 1)
+    if type(value) is tuple:
+        yield list(value)
+        for k, part in enumerate(value):
+            yield value[:k] + value[k + 1:]
+            yield value[:k + 1] + value[k:]
+            yield value[:k] + value[k + 1:k + 2] + value[k:k + 1] + value[k + 2:]
+            for other in changed_once(part):
+                yield value[:k] + (other,) + value[k + 1:]
 
 
 class Fails(Exception):
@@ -103,6 +158,35 @@ def some_expression(chance, cells, depth):
         return (op, some_expression(chance, cells, depth - 1), chance.randint(1, 3))
     many = {"not": 1, "neg": 1, "if": 3}.get(op, 2)
     return (op,) + tuple(some_expression(chance, cells, depth - 1) for _ in range(many))
+
+
+def lively_rule(chance, cells, depth):
+    """A rule that fits the cells, and seldom rests: its values are brought into the ranges, its keys into the tables."""
+    _, size, low, high, *_ = row = chance.choice(cells)
+    part = some_expression(chance, cells, depth)
+    value = ("+", low, ("mod", part, high - low + 1)) if low else ("mod", part, high + 1)
+    target = (row[0], ("mod", some_expression(chance, cells, depth - 1), size)) if size else row[0]
+    guard = chance.choice((1, 1, some_expression(chance, cells, 1)))
+    return ("r", guard, ((target, value),))
+
+
+def some_program(chance, cells, many):
+    """A program of so many rules, made by a given source of chance."""
+    names = "abcdef"[:many]
+    makers = (some_rule, lively_rule, lively_rule, lively_rule)
+    rules = tuple((name,) + chance.choice(makers)(chance, cells, 2)[1:] for name in names)
+    order = chance.sample(names, many)
+    pairs = [(one, other) for k, one in enumerate(order) for other in order[k + 1:] if chance.random() < 0.2]
+    inputs = [row[0] for row in cells if row[4] and row[1] == 0]
+    starts = chance.choice([1, 1] + [("<", name, 1) for name in inputs])
+    return (cells, rules, tuple(sorted(pairs)), starts)
+
+
+def some_programs(seed, many):
+    """So many programs of at most four rules, always the same ones."""
+    chance = chance_of(seed)
+    kinds = (CELLS, SMALL, SHOWN, SHOWN)
+    return [some_program(chance, chance.choice(kinds), chance.choice((1, 2, 3, 3, 4, 4))) for _ in range(many)]
 
 
 def some_rule(chance, cells, depth):

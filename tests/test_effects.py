@@ -1,4 +1,4 @@
-"""[7], [22], [27], [30] and the section effects, of which this is what there is so far."""
+"""[7], [22], [27], [30] and the functions of effects."""
 
 from itertools import product
 
@@ -7,9 +7,7 @@ from orderless.effects import changes_of, reads_of
 from orderless.errors import UnknownRule
 from orderless.rules import assigned, behind, looks_of
 from orderless.states import all_states
-from tests.samples import CELLS, MIXED, MOVE, PROG, SAME, TABLE, Case, chance_of, some_rule
-
-SMALL = (("i", 0, 0, 1, True, False, 0), ("t", 2, -1, 1, False, True, 0), ("u", 0, 0, 0, False, False, 0))
+from tests.samples import CELLS, MIXED, MOVE, PROG, SAME, SMALL, TABLE, Case, chance_of, some_rule
 
 
 def program_with(cells, rule):

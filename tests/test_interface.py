@@ -33,6 +33,24 @@ FUNCTIONS = {
     },
     "moves": {"moves_of": "(program, rule)"},
     "effects": {"reads_of": "(program, rule)", "changes_of": "(program, rule)"},
+    "effectpapers": {"effect_paper": "(program, rule)"},
+    "effectchecker": {"lets_effects": "(program, rule, thing)"},
+    "pairings": {
+        "shared_cells": "(program, rule, other)", "are_apart": "(program, rule, other)",
+        "commute": "(program, rule, other)", "differing_state": "(program, rule, other)",
+    },
+    "touchpapers": {"touch_paper": "(program, rule, other)"},
+    "touchchecker": {"lets_touch": "(program, rule, other, thing)"},
+    "orders": {
+        "pairs_closed": "(program)", "is_before": "(program, rule, other)", "unordered_pairs": "(program)",
+        "legal_orders": "(program)", "first_order": "(program)", "is_legal": "(program, thing)",
+        "prefixes_of": "(program)", "next_rules": "(program, prefix)", "exchanges_of": "(program)",
+    },
+    "running": {
+        "run_states": "(program, state, *rules)", "shown_in": "(program, state)",
+        "result_of": "(program, start, order)", "outcomes_of": "(program, start)",
+        "outcomes_with": "(program, start)", "is_settled": "(program)",
+    },
 }
 
 METHODS = {

@@ -4,9 +4,7 @@ from orderless.errors import UnknownRule
 from orderless.moves import moves_of
 from orderless.rules import behind
 from orderless.states import all_states, state_number
-from tests.samples import ADD, CELLS, MOVE, PROG, SAME, TABLE, Case
-
-TABLES = (TABLE, (MOVE, SAME), (), 1)
+from tests.samples import ADD, CELLS, PROG, TABLES, Case
 
 
 class MovesTest(Case):

@@ -1,0 +1,34 @@
+"""Two rules: the cells that they share, and whether the order between them matters to states."""
+
+from orderless.effects import changes_of, reads_of
+from orderless.lookup import rule_named
+from orderless.moves import moves_of
+
+
+def shared_cells(program, rule, other):
+    """The indexes of the cells that one of both rules changes and the other one reads or changes, ascending."""
+    rule_named(program, rule)
+    rule_named(program, other)
+    changed, other_changed = changes_of(program, rule), changes_of(program, other)
+    touched, other_touched = changed + reads_of(program, rule), other_changed + reads_of(program, other)
+    shared = [cell for cell in changed if cell in other_touched] + [cell for cell in other_changed if cell in touched]
+    return tuple(sorted(set(shared)))
+
+
+def are_apart(program, rule, other):
+    """Whether neither rule changes a cell that the other one reads or changes."""
+    return shared_cells(program, rule, other) == ()
+
+
+def commute(program, rule, other):
+    """Whether from every state both orders of two rules lead to the same state."""
+    return differing_state(program, rule, other) is None
+
+
+def differing_state(program, rule, other):
+    """The number of the first state from which both orders lead to different states, or None."""
+    moves, other_moves = moves_of(program, rule), moves_of(program, other)
+    for number in range(len(moves)):
+        if other_moves[moves[number]] != moves[other_moves[number]]:
+            return number
+    return None
