@@ -73,6 +73,11 @@ def prefixes_of(program):
     return tuple(sorted(found))
 
 
+def prefixes_by_length(program):
+    """A list of all prefixes, short ones first."""
+    return sorted(prefixes_of(program), key=len)
+
+
 def with_rule(prefix, name):
     """The prefix with one more rule."""
     return tuple(sorted(prefix + (name,)))

@@ -1,14 +1,11 @@
 """Two rules: the cells that they share, and whether the order between them matters to states."""
 
 from orderless.effects import changes_of, reads_of
-from orderless.lookup import rule_named
 from orderless.moves import moves_of
 
 
 def shared_cells(program, rule, other):
     """The indexes of the cells that one of both rules changes and the other one reads or changes, ascending."""
-    rule_named(program, rule)
-    rule_named(program, other)
     changed, other_changed = changes_of(program, rule), changes_of(program, other)
     touched, other_touched = changed + reads_of(program, rule), other_changed + reads_of(program, other)
     shared = [cell for cell in changed if cell in other_touched] + [cell for cell in other_changed if cell in touched]

@@ -3,7 +3,7 @@
 from orderless.cells import row_width
 from orderless.lookup import rule_named
 from orderless.moves import all_moves
-from orderless.orders import next_rules, prefixes_of, rule_names, with_rule
+from orderless.orders import next_rules, prefixes_by_length, rule_names, with_rule
 from orderless.rules import behind
 from orderless.states import all_states, starts_of, state_number
 
@@ -51,11 +51,6 @@ def outcomes_with(program, start):
     ends = ways_to[rule_names(program)]
     found = _least([(shown_in(program, state), order) for state, order in ends.items()])
     return tuple(sorted(found.items()))
-
-
-def prefixes_by_length(program):
-    """A list of all prefixes, short ones first."""
-    return sorted(prefixes_of(program), key=len)
 
 
 def is_settled(program):

@@ -55,9 +55,11 @@ class Case(unittest.TestCase):
     """A test case that looks at the attributes of errors."""
 
     def refuses(self, kind, told, function, *parts, **named):
-        """Calling raises exactly this error, with these attributes."""
+        """Calling raises exactly this error, with these attributes, and changes no argument."""
+        before = repr((parts, named))
         with self.assertRaises(kind) as caught:
             function(*parts, **named)
+        self.assertEqual(repr((parts, named)), before)
         self.assertIs(type(caught.exception), kind)
         self.same(vars(caught.exception), told)
 
@@ -76,11 +78,14 @@ class Case(unittest.TestCase):
                 self.refuses(UnknownRule, {"name": name}, function, program, *names, *more)
 
     def verdict(self, function, *parts):
-        """What a checker returns, or the pair of the attributes of its error."""
+        """What a checker returns, or the pair of the attributes of its error; it changes no argument."""
+        before = repr(parts)
         try:
-            return ("accepted", function(*parts))
+            found = ("accepted", function(*parts))
         except InvalidPaper as error:
-            return (error.word, error.at)
+            found = (error.word, error.at)
+        self.assertEqual(repr(parts), before)
+        return found
 
 
 OTHER_PARTS = (None, True, False, -1, 0, 1, 2, 3, 10 ** 59, "x", "add", "see", (), [], (0,), (0, 1))

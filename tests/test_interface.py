@@ -51,6 +51,18 @@ FUNCTIONS = {
         "result_of": "(program, start, order)", "outcomes_of": "(program, start)",
         "outcomes_with": "(program, start)", "is_settled": "(program)",
     },
+    "arriving": {"arriving_at": "(program, prefix)"},
+    "alike": {"alike_at": "(program, prefix)", "telling_order": "(program, prefix, one, other)"},
+    "noticing": {
+        "trace_of": "(program, prefix, one, other)", "noticed_exchanges": "(program)", "open_pairs": "(program)",
+        "is_open_pair": "(program, one, other)", "different_orders": "(program)",
+    },
+    "deciding": {
+        "decided": "(program, *decisions)", "unsettled_choice": "(program, *some)", "settles": "(program, *some)",
+    },
+    "asking": {"questions_needed": "(program)", "best_question": "(program)"},
+    "openpapers": {"pair_paper": "(program, one, other)", "open_paper": "(program)"},
+    "openchecker": {"lets_pair": "(program, one, other, thing)", "lets_open": "(program, thing)"},
 }
 
 METHODS = {

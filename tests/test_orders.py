@@ -6,6 +6,7 @@ from types import GeneratorType
 from orderless.orders import (
     exchanges_of, first_order, is_before, is_legal, legal_orders, next_rules, pairs_closed, prefixes_of, unordered_pairs)
 from tests.samples import ADD, CELLS, CHAIN, FREE, NOTHING, ODD_VALUES, PAIRED, PROG, Case, chance_of, free_rules
+from tests.slowly import Slowly, with_pairs
 
 # a before b, c and d; b and c before d; the pair of a and d is one of the closure.
 DIAMOND = (FREE[0], free_rules(4), (("a", "b"), ("a", "c"), ("a", "d"), ("b", "d"), ("c", "d")), 1)
@@ -13,16 +14,6 @@ DIAMOND = (FREE[0], free_rules(4), (("a", "b"), ("a", "c"), ("a", "d"), ("b", "d
 
 def names_of(program):
     return tuple(rule[0] for rule in program[1])
-
-
-def slow_before(program, one, other):
-    """Whether there is a chain of pairs, by following it."""
-    return any(first == one and (second == other or slow_before(program, second, other)) for first, second in program[2])
-
-
-def slow_orders(program):
-    return [order for order in permutations(names_of(program))
-            if all(order.index(one) < order.index(other) for one, other in program[2])]
 
 
 def some_pairs(seed, many):
@@ -160,36 +151,30 @@ class OrdersTest(Case):
     def test_by_the_definitions(self):
         for program in list(some_pairs(1, 60)) + [DIAMOND]:
             names = names_of(program)
-            before = {(one, other) for one in names for other in names if slow_before(program, one, other)}
+            slowly = Slowly(program)
+            before = slowly.closed
             self.same(pairs_closed(program), tuple(sorted(before)))
-            self.same(unordered_pairs(program), tuple(
-                pair for pair in combinations(names, 2) if pair not in before and pair[::-1] not in before))
+            self.same(unordered_pairs(program), tuple(slowly.unordered()))
             for one in names:
                 for other in names:
                     self.same(is_before(program, one, other), (one, other) in before)
-            orders = slow_orders(program)
+            orders = slowly.orders(names)
             self.same([list(legal_orders(program)), first_order(program)], [orders, orders[0]])
             for order in permutations(names):
                 self.same(is_legal(program, order), order in orders)
-            prefixes = {tuple(sorted(order[:many])) for order in orders for many in range(len(names) + 1)}
-            self.same(prefixes_of(program), tuple(sorted(prefixes)))
-            exchanges = []
-            for prefix in sorted(prefixes):
-                following = [name for name in names if name not in prefix
-                             and all(one in prefix for one, other in before if other == name)]
-                self.same(next_rules(program, prefix), tuple(following))
-                exchanges += [(prefix, one, other) for one, other in combinations(following, 2)]
-            self.same(list(exchanges_of(program)), exchanges)
+            self.same(prefixes_of(program), tuple(slowly.prefixes()))
+            for prefix in slowly.prefixes():
+                self.same(next_rules(program, prefix), tuple(slowly.next_rules(prefix)))
+            self.same(list(exchanges_of(program)), slowly.exchanges())
 
     def test_further_pairs_add_no_order(self):
         for program in some_pairs(2, 20):
             for one, other in unordered_pairs(program):
-                more = program[:2] + (tuple(sorted(program[2] + ((other, one),))), 1)
-                self.assertTrue(set(legal_orders(more)) < set(legal_orders(program)))
+                self.assertTrue(set(legal_orders(with_pairs(program, (other, one)))) < set(legal_orders(program)))
 
     def test_orders_are_connected_by_neighbours(self):
         for program in some_pairs(3, 15):
-            orders = slow_orders(program)
+            orders = list(legal_orders(program))
             reached = [orders[0]]
             for order in reached:
                 for k in range(len(order) - 1):

@@ -5,33 +5,15 @@ from itertools import permutations
 from orderless.errors import UnknownRule
 from orderless.orders import legal_orders, pairs_closed, unordered_pairs
 from orderless.pairings import commute
-from orderless.rules import behind
 from orderless.running import is_settled, outcomes_of, outcomes_with, result_of, run_states, shown_in
 from orderless.states import all_states, starts_of
 from tests.samples import (
     ADD, CELLS, CHAIN, FREE, MIXED, NINE, NOTHING, PAIRED, PROG, SEE, TABLES, TWICE, Case, free_rules, some_programs)
+from tests.slowly import Slowly, with_pairs
 
 NO_START = (CELLS, PROG[1], (), 0)
 HIDDEN = tuple(row[:5] + (False,) + row[6:] for row in CELLS)
 NOT_SHOWN = (HIDDEN, PROG[1], (), 1)
-
-
-def slow_result(program, start, order):
-    rules = {rule[0]: rule for rule in program[1]}
-    state = start
-    for name in order:
-        state = behind(program[0], rules[name], state)
-    flags = [row[5] for row in program[0] for _ in range(max(1, row[1]))]
-    return tuple(value for k, value in enumerate(state) if flags[k])
-
-
-def slow_outcomes(program, start):
-    """A dict with the least order for each result."""
-    found = {}
-    for order in permutations([rule[0] for rule in program[1]]):
-        if all(order.index(one) < order.index(other) for one, other in program[2]):
-            found.setdefault(slow_result(program, start, order), order)
-    return found
 
 
 class RunningTest(Case):
@@ -71,7 +53,7 @@ class RunningTest(Case):
     def test_result_of(self):
         for x in range(4):
             for order in permutations(("add", "see", "twice")):
-                self.same(result_of(PROG, (0, x), order), slow_result(PROG, (0, x), order))
+                self.same(result_of(PROG, (0, x), order), Slowly(PROG).result((0, x), order))
                 self.same(result_of(NOT_SHOWN, (0, x), order), ())
         self.same(result_of(NOTHING, (), ()), ())
         self.same(result_of((CELLS, (), (), 1), (0, 2), ()), (0,))
@@ -110,7 +92,7 @@ class RunningTest(Case):
 
     def test_five_rules_with_many_orders(self):
         program = (NINE, free_rules(5), (), 1)
-        found = slow_outcomes(program, (1,))
+        found = Slowly(program).results((1,))
         self.same(outcomes_with(program, (1,)), tuple(sorted(found.items())))
         self.assertTrue(len(found) > 2)
 
@@ -122,16 +104,15 @@ class RunningTest(Case):
     def test_by_the_definitions(self):
         settled = {True: 0, False: 0}
         for program in [PROG, PAIRED, CHAIN, TABLES, NO_START, NOT_SHOWN, NOTHING] + some_programs(31, 120):
-            many = 1
-            for start in starts_of(program):
-                found = slow_outcomes(program, start)
-                many = max(many, len(found))
+            slowly = Slowly(program)
+            for start in slowly.starts:
+                found = slowly.results(start)
                 self.same(outcomes_with(program, start), tuple(sorted(found.items())))
                 self.same(outcomes_of(program, start), tuple(sorted(found)))
                 for order in legal_orders(program):
-                    self.same(result_of(program, start, order), slow_result(program, start, order))
-            settled[many == 1] += 1
-            self.same(is_settled(program), many == 1)
+                    self.same(result_of(program, start, order), slowly.result(start, order))
+            settled[slowly.settled()] += 1
+            self.same(is_settled(program), slowly.settled())
         self.assertTrue(min(settled.values()) > 20)
 
     def test_neighbours_that_commute(self):
@@ -148,8 +129,7 @@ class RunningTest(Case):
             for start in starts_of(program):
                 self.same(outcomes_with(closed, start), outcomes_with(program, start))
                 for pair in unordered_pairs(program):
-                    more = program[:2] + (tuple(sorted(program[2] + (pair,))), program[3])
-                    self.assertTrue(set(outcomes_of(more, start)) <= set(outcomes_of(program, start)))
+                    self.assertTrue(set(outcomes_of(with_pairs(program, pair), start)) <= set(outcomes_of(program, start)))
             self.same(is_settled(closed), is_settled(program))
 
     def test_rules_that_rest(self):
