@@ -5,7 +5,6 @@ properties may use them, and these must change nothing.
 """
 
 from orderless.cells import cell_index, found_index
-from orderless.kinds import is_integer
 
 LAZY = ("and", "or", "if")
 
@@ -33,7 +32,7 @@ def first_looks(state, looks):
 
 def evaluated(cells, state, expression):
     """The value, None if it fails, and a tuple of the indexes of all looks, in order."""
-    if is_integer(expression):
+    if isinstance(expression, int):
         return expression, ()
     if isinstance(expression, str):
         index = cell_index(cells, expression)

@@ -5,7 +5,7 @@ from orderless.errors import InvalidPaper
 from orderless.expressions import value_in
 from orderless.fitting import fits_expression, fits_rule
 from orderless.kinds import has_row_shape, is_expression, is_name, is_rule
-from orderless.states import all_states, count_states
+from orderless.states import count_states, states_for_inputs
 
 MOST_CELLS = 10
 MOST_STATES = 256
@@ -93,6 +93,6 @@ def _check_starts(program):
     cells, _, _, starts = program
     if not fits_expression(cells, starts, only_inputs=True):
         raise InvalidPaper("starts", -1)
-    for state in all_states(program):
+    for state in states_for_inputs(program):
         if value_in(cells, state, starts) is None:
             raise InvalidPaper("fails", -1)

@@ -16,8 +16,8 @@ def count_states(program):
 
 def all_states(program):
     """A generator of all states, ascending."""
-    for number in range(count_states(program)):
-        yield state_at(program, number)
+    for state in _combined(cell_ranges(program[0])):
+        yield state
 
 
 def state_number(program, state):
@@ -60,10 +60,26 @@ def with_low_value(number, step, many):
 
 def starts_of(program):
     """A generator of all starts, ascending."""
-    for number in range(count_states(program)):
-        state = state_at(program, number)
-        if is_start(program, state):
+    cells, _, _, starts = program
+    for state in states_for_inputs(program):
+        if value_in(cells, state, starts) != 0:
             yield state
+
+
+def states_for_inputs(program):
+    """A list of the states in which all cells that are no inputs have the value first, ascending."""
+    ranges = []
+    for row in program[0]:
+        ranges = ranges + [(row[2], row[3]) if row[4] else (row[6], row[6])] * row_width(row)
+    return _combined(ranges)
+
+
+def _combined(ranges):
+    """A list of all tuples with a value out of each of the ranges, ascending."""
+    states = [()]
+    for low, high in ranges:
+        states = [state + (value,) for state in states for value in range(low, high + 1)]
+    return states
 
 
 def is_start(program, thing):
