@@ -10,13 +10,19 @@ def row_width(row):
 
 def cell_names(cells):
     """The written names of all cells, in order."""
-    names = []
+    places = cell_places(cells)
+    return tuple([place if isinstance(place, str) else f"{place[0]}.{place[1]}" for place in places])
+
+
+def cell_places(cells):
+    """What tells the cells apart, in order: the name of a plain cell, (name, key) for the cell of a table."""
+    places = []
     for row in cells:
         if row[1] == 0:
-            names = names + [row[0]]
+            places = places + [row[0]]
         else:
-            names = names + [f"{row[0]}.{key}" for key in range(row[1])]
-    return tuple(names)
+            places = places + [(row[0], key) for key in range(row[1])]
+    return tuple(places)
 
 
 def cell_ranges(cells):

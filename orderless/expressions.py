@@ -81,7 +81,7 @@ def _full_value(cells, state, expression):
         values.append(value)
     if len(values) == 1:
         return _of_one(expression[0], values[0]), looks
-    return _of_two(expression[0], values[0], values[1]), looks
+    return value_of_two(expression[0], values[0], values[1]), looks
 
 
 def _of_one(op, value):
@@ -90,7 +90,8 @@ def _of_one(op, value):
     return -value
 
 
-def _of_two(op, one, other):
+def value_of_two(op, one, other):
+    """The value of an operator of two values; div and mod have other from 1 on."""
     if op == "+":
         return one + other
     if op == "-":

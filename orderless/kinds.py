@@ -25,6 +25,16 @@ def is_name(thing):
     return all([letter in LETTERS for letter in thing])
 
 
+def are_names(thing):
+    """Whether any value is a tuple of names."""
+    return isinstance(thing, tuple) and all([is_name(name) for name in thing])
+
+
+def are_integers(thing):
+    """Whether any value is a tuple of integers."""
+    return isinstance(thing, tuple) and all([is_integer(part) for part in thing])
+
+
 def has_row_shape(thing):
     """Whether any value has the parts of a cell row, perhaps with wrong ranges."""
     if not isinstance(thing, tuple) or len(thing) != 7:

@@ -16,12 +16,12 @@ def trace_of(program, prefix, one, other):
     """A trace (start, before, behind) of the exchange of two rules at a prefix, or None if it is not noticed."""
     rule_named(program, one)
     rule_named(program, other)
-    return _trace(program, _known_of(program), prefix, tuple(sorted((one, other))))
+    return _trace(program, known_of(program), prefix, tuple(sorted((one, other))))
 
 
 def noticed_exchanges(program):
     """The ascending tuple of all noticed exchanges."""
-    known = _known_of(program)
+    known = known_of(program)
     exchanges = list(exchanges_of(program))
     return tuple([exchange for exchange in exchanges if _noticing_number(known, exchange[0], exchange[1:]) is not None])
 
@@ -47,7 +47,7 @@ def different_orders(program):
 
 def open_traces(program):
     """A dict of a trace of each open pair."""
-    known = _known_of(program)
+    known = known_of(program)
     found = {}
     for prefix, one, other in list(exchanges_of(program)):
         if (one, other) not in found:
@@ -57,7 +57,8 @@ def open_traces(program):
     return found
 
 
-def _known_of(program):
+def known_of(program):
+    """What is known of a program: (moves, arriving, alike)."""
     moves = all_moves(program)
     return (moves, arriving_by_prefix(program, moves), alike_by_prefix(program, moves))
 

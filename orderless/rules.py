@@ -22,8 +22,12 @@ def assigned(cells, rule, state):
 
 def behind(cells, rule, state):
     """The state behind a rule."""
+    return with_assigned(state, assigned(cells, rule, state))
+
+
+def with_assigned(state, entries):
+    """The state with the values that are assigned, as assigned tells them; the same one for None."""
     values = list(state)
-    entries = assigned(cells, rule, state)
     if entries is not None:
         for index, value in entries:
             values[index] = value

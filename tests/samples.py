@@ -208,3 +208,32 @@ def some_rule(chance, cells, depth):
 def chance_of(seed):
     """A source of chance that is the same in every run."""
     return random.Random(seed)
+
+
+# Loads x, adds 1, and stores it if it is at most 3.
+CODE = (("load", 0, "x"), ("const", 1, 1), ("do", "+", 0, 0, 1), ("const", 1, 3), ("do", "<=", 1, 0, 1), ("unless", 1, 7),
+        ("store", "x", 0))
+
+OPERATORS = ("+", "-", "*", "least", "most", "=", "<", "<=", "div", "mod")
+
+
+def some_instruction(chance, cells, i, many):
+    """An instruction that fits the cells, at index i of so many."""
+    row = chance.choice(cells)
+    place = (row[0], chance.randrange(row[1])) if row[1] else row[0]
+    tables = [row[0] for row in cells if row[1]]
+    r, s, u = (chance.choice((0, 0, 1, 2, 31)) for _ in range(3))
+    kinds = ["const", "do", "do", "load", "load", "store", "jump", "unless", "end"] + ["loadat", "storeat"] * bool(tables)
+    return {
+        "const": lambda: ("const", r, chance.choice((0, 1, 1, 2, -1, 5, 10 ** 59))),
+        "do": lambda: ("do", chance.choice(OPERATORS), r, s, u),
+        "load": lambda: ("load", r, place), "store": lambda: ("store", place, r),
+        "loadat": lambda: ("loadat", r, chance.choice(tables), s), "storeat": lambda: ("storeat", chance.choice(tables), s, r),
+        "jump": lambda: ("jump", chance.randint(i + 1, many)), "unless": lambda: ("unless", s, chance.randint(i + 1, many)),
+        "end": lambda: ("end",) if chance.random() < 0.2 else ("load", r, place),
+    }[chance.choice(kinds)]()
+
+
+def some_code(chance, cells, many):
+    """Code of so many instructions that fits the cells, made by a given source of chance."""
+    return tuple(some_instruction(chance, cells, i, many) for i in range(many))
