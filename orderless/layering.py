@@ -16,16 +16,8 @@ def layers_of(program):
     prefixes = prefixes_of(program)
     apart = apart_pairs(program)
     layers_to = {(): ()}
-    reached = [()]
     while rule_names(program) not in layers_to:
-        level = reached
-        reached = []
-        for prefix in level:
-            for longer in prefixes:
-                layer = tuple([name for name in longer if name not in prefix])
-                if longer not in layers_to and _is_next_layer(apart, prefix, longer, layer):
-                    layers_to[longer] = layers_to[prefix] + (layer,)
-                    reached.append(longer)
+        layers_to = _with_one_layer_more(prefixes, apart, layers_to)
     return layers_to[rule_names(program)]
 
 
@@ -62,6 +54,17 @@ def run_layers(program, state, layers, codes, *schedules):
         schedule = schedules[k] if k < len(schedules) else ()
         values = interleaved(program[0], values, tuple([codes[names.index(name)] for name in layer]), schedule)
     return values
+
+
+def _with_one_layer_more(prefixes, apart, layers_to):
+    """A dict of layers that lead to prefixes, with all prefixes to which one layer more leads."""
+    found = {prefix: layers_to[prefix] for prefix in layers_to}
+    for prefix in layers_to:
+        for longer in prefixes:
+            layer = tuple([name for name in longer if name not in prefix])
+            if longer not in found and _is_next_layer(apart, prefix, longer, layer):
+                found[longer] = layers_to[prefix] + (layer,)
+    return found
 
 
 def _is_next_layer(apart, prefix, longer, layer):

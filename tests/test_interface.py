@@ -63,7 +63,34 @@ FUNCTIONS = {
     "asking": {"questions_needed": "(program)", "best_question": "(program)"},
     "openpapers": {"pair_paper": "(program, one, other)", "open_paper": "(program)"},
     "openchecker": {"lets_pair": "(program, one, other, thing)", "lets_open": "(program, thing)"},
+    "codekinds": {"is_code": "(thing)"},
+    "machines": {"run_alone": "(cells, code, state)"},
+    "coding": {"code_of": "(program, rule)"},
+    "codechecker": {"lets_code": "(program, rule, thing)"},
+    "interleaving": {"interleaved": "(cells, state, codes, schedule)", "schedules_of": "(cells, state, codes)"},
+    "layering": {
+        "layers_of": "(program)", "lets_layers": "(program, thing)",
+        "run_layers": "(program, state, layers, codes, *schedules)",
+    },
+    "leaving": {
+        "without_rule": "(program, rule)", "matters": "(program, rule)", "left_out": "(program)",
+        "lets_left": "(program, thing)", "matter_paper": "(program, rule)", "lets_matter": "(program, rule, thing)",
+    },
+    "folding": {"are_same": "(cells, one, other)", "folded": "(cells, expression)"},
+    "records": {
+        "record_of": "(program, order, start)", "again": "(program, record, start)", "record_result": "(program, record)",
+    },
+    "recordchecker": {"lets_record": "(program, thing)"},
+    "replaying": {"is_log": "(thing)", "replayed": "(log)"},
+    "steplines": {"step_line": "(step)", "log_lines": "(log)"},
+    "linereadings": {"read_step": "(text)", "read_log": "(lines)"},
 }
+
+GENERATORS = {
+    "states": ("all_states", "starts_of"), "orders": ("legal_orders", "exchanges_of"), "interleaving": ("schedules_of",),
+}
+
+PROPERTIES = ("program", "decided", "decisions", "inputs", "open_pairs", "is_settled", "result", "record")
 
 METHODS = {
     "expressionclasses": {
@@ -93,6 +120,20 @@ METHODS = {
             "__eq__": "(self, other)", "__str__": "(self)",
         },
     },
+    "workshops": {
+        "Workshop": {
+            "__init__": "(self)", "of": "(program, *decisions)", "read": "(text)", "__getitem__": "(self, at)",
+            "__contains__": "(self, x)", "__len__": "(self)", "__eq__": "(self, other)", "__ne__": "(self, other)",
+            "__str__": "(self)", "__call__": "(self, step)", "go": "(self, step)", "add_cell": "(self, row)",
+            "remove_cell": "(self, name)", "add_rule": "(self, rule)", "remove_rule": "(self, name)",
+            "add_pair": "(self, one, other)", "remove_pair": "(self, one, other)", "set_starts": "(self, expression)",
+            "decide": "(self, one, other)", "undecide": "(self, one, other)", "set_inputs": "(self, value)",
+            "barred": "(self, step)", "implied": "(self)", "needless": "(self)", "choices": "(self)",
+            "decide_by": "(self, *names)", "do_all": "(self, *steps, keep=False)", "tried": "(self, *steps)",
+            "undo": "(self)", "log": "(self)", "counts": "(self)", "table": "(self)",
+        },
+    },
+    "desk": {"Desk": {"__init__": "(self)", "say": "(self, text)", "counts": "(self)"}},
 }
 
 
@@ -117,5 +158,20 @@ class InterfaceTest(Case):
     def test_class_methods(self):
         from orderless.expressionclasses import Formed
         from orderless.ruleclasses import Rule
-        for one, name in ((Formed, "read"), (Rule, "read"), (Rule, "setting")):
+        from orderless.workshops import Workshop
+        for one, name in ((Formed, "read"), (Rule, "read"), (Rule, "setting"), (Workshop, "of"), (Workshop, "read")):
             self.assertIsInstance(vars(one)[name], classmethod)
+
+    def test_generators(self):
+        from orderless.workshops import Workshop
+        for module, names in GENERATORS.items():
+            for name in names:
+                self.assertTrue(inspect.isgeneratorfunction(getattr(importlib.import_module(f"orderless.{module}"), name)))
+        self.assertTrue(inspect.isgeneratorfunction(Workshop.choices))
+
+    def test_properties_and_class_values(self):
+        from orderless.workshops import Workshop
+        for name in PROPERTIES:
+            self.assertIsInstance(vars(Workshop)[name], property)
+            self.assertIs(vars(Workshop)[name].fset is None, name != "inputs")
+        self.same([vars(Workshop)[name] for name in ("CELLS", "STATES", "RULES")], [10, 256, 6])

@@ -30,6 +30,9 @@ rshift neg pos invert abs bool contains getitem setitem""".split())
 
 NO_NAMES = set("""register mro elements open input law version_info with_traceback add_note""".split())
 
+NO_OWN_NAMES = re.compile(r"(_cold|_tuplegetter|_outside|_record|_written_out|_member_names)[0-9_]*|"
+                          r"(_wall|_pe_|_dcw_|_enum_|_cm_|_twin_re_|_lay_|_law_|_stub_|_sre|_WallAttr).*")
+
 NO_WORDS = set("""type typing typing_extensions enum Enum IntEnum StrEnum Flag IntFlag Generic Protocol ABC ABCMeta
 namedtuple NamedTuple TypedDict TYPE_CHECKING abstractmethod dataclass overload contextmanager""".split())
 
@@ -38,6 +41,34 @@ def own_names(tree):
     """The names that a module binds by itself."""
     names = [node.name for node in tree.body if isinstance(node, FUNCTIONS + (ast.ClassDef,))]
     return names + [target.id for node in tree.body if isinstance(node, ast.Assign) for target in node.targets]
+
+
+def is_function_table(value, above):
+    """Whether a value is a dict of functions that are defined above it, by strings."""
+    functions = {node.name for node in above if isinstance(node, FUNCTIONS)}
+    return (isinstance(value, ast.Dict) and all(isinstance(key, ast.Constant) for key in value.keys)
+            and all(isinstance(part, ast.Name) and part.id in functions for part in value.values))
+
+
+CHANGING = set("append clear extend insert pop remove reverse setdefault update sort add discard".split())
+
+
+def fresh_names(function):
+    """The names to which a function assigns nothing but lists and dicts that it creates itself."""
+    fresh, other = set(), set()
+    for node in ast.walk(function):
+        if isinstance(node, ast.Assign):
+            own = isinstance(node.value, (ast.List, ast.Dict, ast.ListComp)) or (
+                isinstance(node.value, ast.Call) and ast.unparse(node.value.func) in ("list", "dict", "sorted"))
+            for target in node.targets:
+                for part in target.elts if isinstance(target, ast.Tuple) else [target]:
+                    (fresh if own else other).add(ast.unparse(part))
+    return fresh - other
+
+
+def is_simple(value):
+    """Whether a value is one that a finally may assign (L6): here, an attribute."""
+    return isinstance(value, ast.Attribute) and isinstance(value.value, ast.Name)
 
 
 def imported_names(tree):
@@ -106,7 +137,8 @@ class LanguageTest(unittest.TestCase):
                     self.assertTrue(k == 0 and isinstance(node.value, ast.Constant))
                 elif isinstance(node, ast.Assign):
                     self.assertTrue(len(node.targets) == 1 and isinstance(node.targets[0], ast.Name))
-                    ast.literal_eval(node.value)
+                    if not is_function_table(node.value, TREES[stem].body[:k]):
+                        ast.literal_eval(node.value)
                 else:
                     self.assertIsInstance(node, (ast.ImportFrom, ast.FunctionDef, ast.ClassDef))
             names = own_names(TREES[stem]) + imported_names(TREES[stem])
@@ -120,6 +152,7 @@ class LanguageTest(unittest.TestCase):
             known = set(own_names(TREES[stem])) | taken
             bound = {node.id for node in nodes if isinstance(node, ast.Name) and isinstance(node.ctx, ast.Store)}
             bound |= {node.arg for node in nodes if isinstance(node, ast.arg)}
+            known |= {node.name for node in nodes if isinstance(node, FUNCTIONS) and node.decorator_list}
             for name in bound:
                 self.assertNotIn(name, taken)
                 self.assertFalse(hasattr(builtins, name), name)
@@ -128,6 +161,8 @@ class LanguageTest(unittest.TestCase):
                 if isinstance(node, ast.Name) and isinstance(node.ctx, ast.Load):
                     self.assertIn(node.id, known | bound | BUILTINS)
                     self.assertNotEqual(node.id, "_")
+                for name in (getattr(node, "name", None), getattr(node, "attr", None), getattr(node, "id", None)):
+                    self.assertFalse(name is not None and NO_OWN_NAMES.fullmatch(name), name)
                 if isinstance(node, ast.Attribute):
                     self.assertNotIn(node.attr, NO_NAMES | {"args", "format", "format_map"})
                     self.assertTrue(node.attr == "__init__" or not node.attr.startswith("__"))
@@ -145,7 +180,7 @@ class LanguageTest(unittest.TestCase):
     def test_syntax(self):
         """L4, L6, L7, L20, L21"""
         never = (ast.Global, ast.Lambda, ast.GeneratorExp, ast.AsyncFunctionDef, ast.Await, ast.Div, ast.MatMult, ast.Pow,
-                 ast.AnnAssign, ast.Try, ast.With, ast.Match, ast.Set, ast.SetComp, ast.NamedExpr, ast.Nonlocal)
+                 ast.AnnAssign, ast.With, ast.Match, ast.Set, ast.SetComp, ast.NamedExpr, ast.Nonlocal)
         for stem, nodes in self.each():
             for node in nodes:
                 if isinstance(node, never):
@@ -159,9 +194,21 @@ class LanguageTest(unittest.TestCase):
                 if isinstance(node, FUNCTIONS):
                     self.assertIsNone(node.returns)
                     for one in node.decorator_list:
-                        self.assertIn(ast.unparse(one), ("classmethod", "staticmethod", "property"))
+                        self.assertIn(ast.unparse(one), ("classmethod", "property", f"{node.name}.setter"))
                 if isinstance(node, ast.arg):
                     self.assertIsNone(node.annotation)
+
+    def test_tries(self):
+        """L6, L19: own errors only, and a finally that assigns attributes to attributes."""
+        errors = {node.name for node in TREES["errors"].body if isinstance(node, ast.ClassDef)}
+        for stem, nodes in self.each():
+            for node in nodes:
+                if isinstance(node, ast.Try):
+                    for handler in node.handlers:
+                        self.assertIn(ast.unparse(handler.type), errors)
+                        self.assertIsNone(handler.name)
+                    for part in node.finalbody:
+                        self.assertTrue(isinstance(part, ast.Assign) and all(map(is_simple, part.targets + [part.value])))
 
     def test_classes(self):
         """L5, L18, L28"""
@@ -171,10 +218,19 @@ class LanguageTest(unittest.TestCase):
                     continue
                 self.assertEqual((node.decorator_list, node.keywords), ([], []))
                 methods = [part for part in node.body if isinstance(part, ast.FunctionDef)]
-                names = [method.name for method in methods]
+                setters = [method for method in methods for one in method.decorator_list if isinstance(one, ast.Attribute)]
+                for method in setters:
+                    getter = methods[methods.index(method) - 1]
+                    self.assertEqual((getter.name, ast.unparse(getter.decorator_list[0])), (method.name, "property"))
+                names = [method.name for method in methods if method not in setters]
                 self.assertEqual(len(names), len(set(names)))
+                for part in node.body:
+                    if isinstance(part, ast.Assign):
+                        self.assertIsInstance(part.value, ast.Constant)
+                        names = names + [part.targets[0].id]
                 for name in names:
                     self.assertTrue(not name.startswith("__") or name[2:-2] in DUNDERS, name)
+                    self.assertNotIn(name, METHODS)
                 if "__getitem__" in names:
                     self.assertIn("__iter__", names)
                 stored = {part.attr for part in ast.walk(node)
@@ -197,7 +253,7 @@ class LanguageTest(unittest.TestCase):
                         self.assertIsInstance(part.value, ast.Name)
 
     def test_operators_change_nothing(self):
-        """L5: what operators, and the functions that they call, must not do, as far as names tell."""
+        """L5: what operators and properties, and the functions that they call, must not do, as far as names tell."""
         defined = {}
         for nodes in NODES.values():
             for node in nodes:
@@ -205,6 +261,10 @@ class LanguageTest(unittest.TestCase):
                     defined.setdefault(node.name, []).append(node)
         free = ("__init__", "__call__", "__iter__", "__enter__", "__exit__", "__setitem__")
         pending = [name for name in defined if name.startswith("__") and name not in free]
+        getters = [function for functions in defined.values() for function in functions
+                   if [ast.unparse(one) for one in function.decorator_list] == ["property"]]
+        pending += [node.func.attr if isinstance(node.func, ast.Attribute) else node.func.id
+                    for function in getters for node in ast.walk(function) if isinstance(node, ast.Call)]
         seen = set()
         while pending:
             name = pending.pop()
@@ -212,12 +272,19 @@ class LanguageTest(unittest.TestCase):
                 continue
             seen.add(name)
             for function in defined[name]:
+                made = fresh_names(function)
                 for node in ast.walk(function):
                     if isinstance(node, ast.Attribute):
                         self.assertIsInstance(node.ctx, ast.Load, name)
+                        if node.attr in CHANGING:
+                            self.assertIn(ast.unparse(node.value), made, name)
+                    if isinstance(node, ast.Subscript) and not isinstance(node.ctx, ast.Load):
+                        self.assertIn(ast.unparse(node.value), made, name)
+                    if isinstance(node, ast.AugAssign):
+                        self.assertTrue(isinstance(node.target, ast.Name) and isinstance(node.value, ast.Constant), name)
                     if isinstance(node, ast.Call):
                         pending.append(node.func.attr if isinstance(node.func, ast.Attribute) else node.func.id)
-        self.assertTrue({"expression_text", "form_of", "rule_text", "form"} <= seen)
+        self.assertTrue({"expression_text", "form_of", "rule_text", "form", "known_of", "is_settled", "step_line"} <= seen)
 
     def test_generators(self):
         """L23"""
