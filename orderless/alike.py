@@ -3,7 +3,7 @@
 from orderless.moves import all_moves
 from orderless.orders import next_rules, prefixes_by_length, rule_names, with_rule
 from orderless.running import shown_in
-from orderless.states import all_states, state_number
+from orderless.states import state_list, state_number
 
 
 def alike_at(program, prefix):
@@ -13,7 +13,7 @@ def alike_at(program, prefix):
 
 def alike_by_prefix(program, moves):
     """A dict of what alike_at tells for each prefix."""
-    shown = [shown_in(program, state) for state in list(all_states(program))]
+    shown = [shown_in(program, state) for state in state_list(program)]
     found = {rule_names(program): _first_places(shown)}
     for prefix in prefixes_by_length(program)[::-1][1:]:
         columns = []

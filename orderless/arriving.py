@@ -2,7 +2,7 @@
 
 from orderless.moves import all_moves
 from orderless.orders import prefixes_by_length
-from orderless.states import starts_of, state_number
+from orderless.states import start_list, state_number
 
 
 def arriving_at(program, prefix):
@@ -12,7 +12,7 @@ def arriving_at(program, prefix):
 
 def arriving_by_prefix(program, moves):
     """A dict of the numbers of the states that arrive, ascending, for each prefix."""
-    starts = list(starts_of(program))
+    starts = start_list(program)
     found = {}
     for prefix in prefixes_by_length(program):
         numbers = [state_number(program, start) for start in starts] if prefix == () else []

@@ -3,7 +3,7 @@
 from orderless.moves import all_moves
 from orderless.orders import legal_orders, rule_names
 from orderless.running import shown_in
-from orderless.states import all_states, starts_of, state_number
+from orderless.states import start_list, state_list, state_number
 
 
 def questions_needed(program):
@@ -67,10 +67,10 @@ class Asking:
 def _results_of(program, orders):
     """For each order the list of its results for all starts."""
     moves = all_moves(program)
-    shown = [shown_in(program, state) for state in list(all_states(program))]
+    shown = [shown_in(program, state) for state in state_list(program)]
     results = []
     for order in orders:
-        numbers = [state_number(program, start) for start in list(starts_of(program))]
+        numbers = [state_number(program, start) for start in start_list(program)]
         for name in order:
             numbers = [moves[name][number] for number in numbers]
         results.append([shown[number] for number in numbers])

@@ -7,7 +7,7 @@ from orderless.errors import InvalidPaper
 from orderless.lookup import rule_named
 from orderless.machines import first_run, step_of
 from orderless.rules import behind
-from orderless.states import all_states
+from orderless.states import state_list
 
 
 def lets_code(program, rule, thing):
@@ -18,7 +18,7 @@ def lets_code(program, rule, thing):
     cells = program[0]
     _check_fits(cells, thing)
     changes = changes_of(program, rule)
-    for n, state in enumerate(list(all_states(program))):
+    for n, state in enumerate(state_list(program)):
         values = _checked_end(cells, changes, thing, n, state)
         if values != behind(cells, found, state):
             raise InvalidPaper("end", n)

@@ -2,7 +2,7 @@
 
 from orderless.cells import cell_places
 from orderless.effects import changes_of, entries_of, reads_of
-from orderless.states import all_states
+from orderless.states import state_list
 
 # A slot for the values that slots are compared with; there are fewer cells than that.
 SPARE = 31
@@ -23,7 +23,7 @@ def code_of(program, rule):
 def _rows_of(program, rule, reads, places):
     """A list of pairs (values of the cells that are read, what is to be stored), ascending."""
     changes = changes_of(program, rule)
-    states = list(all_states(program))
+    states = state_list(program)
     found = {}
     for state, entries in zip(states, entries_of(program, rule)):
         stores = [(places[cell], value) for cell, value in entries or () if cell in changes]

@@ -1,7 +1,7 @@
 """Writing effect papers: states that show what a rule reads and changes."""
 
 from orderless.effects import changed_cells, entries_of, reading_pair
-from orderless.states import all_states, cell_steps
+from orderless.states import cell_steps, state_list
 
 
 def effect_paper(program, rule):
@@ -20,7 +20,7 @@ def _read_rows(program, entries):
 
 
 def _change_rows(program, entries):
-    states = list(all_states(program))
+    states = state_list(program)
     first = {}
     for number, state in enumerate(states):
         for cell in changed_cells(state, entries[number]):

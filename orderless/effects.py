@@ -2,7 +2,7 @@
 
 from orderless.lookup import rule_named
 from orderless.rules import assigned
-from orderless.states import all_states, cell_steps, with_low_value
+from orderless.states import cell_steps, state_list, with_low_value
 
 
 def reads_of(program, rule):
@@ -15,7 +15,7 @@ def reads_of(program, rule):
 def changes_of(program, rule):
     """The ascending tuple of the indexes of the cells that a rule changes."""
     entries = entries_of(program, rule)
-    states = list(all_states(program))
+    states = state_list(program)
     changed = []
     for state, assigns in zip(states, entries):
         changed = changed + changed_cells(state, assigns)
@@ -25,7 +25,7 @@ def changes_of(program, rule):
 def entries_of(program, rule):
     """A tuple of what the rule assigns in each state, in ascending order; None where it rests."""
     found = rule_named(program, rule)
-    states = list(all_states(program))
+    states = state_list(program)
     return tuple([assigned(program[0], found, state) for state in states])
 
 

@@ -2,7 +2,7 @@
 
 from orderless.expressions import value_in
 from orderless.kinds import is_integer
-from orderless.states import all_states
+from orderless.states import state_list
 
 
 def are_same(cells, one, other):
@@ -43,4 +43,4 @@ def _only_value(cells, states, expression):
 
 
 def _states_of(cells):
-    return list(all_states((cells, (), (), 1)))
+    return state_list((cells, (), (), 1))

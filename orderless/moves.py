@@ -2,13 +2,13 @@
 
 from orderless.lookup import rule_named
 from orderless.rules import behind
-from orderless.states import all_states
+from orderless.states import state_list
 
 
 def moves_of(program, rule):
     """A tuple with the number of the state behind the rule for each state, in ascending order."""
     found = rule_named(program, rule)
-    states = list(all_states(program))
+    states = state_list(program)
     numbers = {state: number for number, state in enumerate(states)}
     return tuple([numbers[behind(program[0], found, state)] for state in states])
 

@@ -8,7 +8,7 @@ from orderless.alike import alike_by_prefix, telling_names
 from orderless.arriving import arriving_by_prefix, way_to
 from orderless.lookup import rule_named
 from orderless.moves import all_moves
-from orderless.orders import exchanges_of, with_rule
+from orderless.orders import exchange_list, with_rule
 from orderless.states import state_at
 
 
@@ -22,7 +22,7 @@ def trace_of(program, prefix, one, other):
 def noticed_exchanges(program):
     """The ascending tuple of all noticed exchanges."""
     known = known_of(program)
-    exchanges = list(exchanges_of(program))
+    exchanges = exchange_list(program)
     return tuple([exchange for exchange in exchanges if _noticing_number(known, exchange[0], exchange[1:]) is not None])
 
 
@@ -49,7 +49,7 @@ def open_traces(program):
     """A dict of a trace of each open pair."""
     known = known_of(program)
     found = {}
-    for prefix, one, other in list(exchanges_of(program)):
+    for prefix, one, other in exchange_list(program):
         if (one, other) not in found:
             trace = _trace(program, known, prefix, (one, other))
             if trace is not None:

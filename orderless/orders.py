@@ -65,17 +65,17 @@ def is_legal(program, thing):
 
 def prefixes_of(program):
     """The ascending tuple of all prefixes."""
+    return tuple(sorted(prefixes_by_length(program)))
+
+
+def prefixes_by_length(program):
+    """A list of all prefixes, short ones first, those of one length ascending."""
     found = []
     level = [()]
     while level:
         found = found + level
         level = sorted(set([with_rule(prefix, name) for prefix in level for name in next_rules(program, prefix)]))
-    return tuple(sorted(found))
-
-
-def prefixes_by_length(program):
-    """A list of all prefixes, short ones first."""
-    return sorted(prefixes_of(program), key=len)
+    return found
 
 
 def with_rule(prefix, name):
@@ -91,9 +91,14 @@ def next_rules(program, prefix):
 
 def exchanges_of(program):
     """A generator of all exchanges (prefix, r, s), ascending."""
+    for exchange in exchange_list(program):
+        yield exchange
+
+
+def exchange_list(program):
+    """A list of all exchanges, ascending: for properties, which must not run a generator."""
+    found = []
     for prefix in prefixes_of(program):
         names = next_rules(program, prefix)
-        for one in names:
-            for other in names:
-                if one < other:
-                    yield (prefix, one, other)
+        found = found + [(prefix, one, other) for one in names for other in names if one < other]
+    return found

@@ -5,7 +5,7 @@ from orderless.lookup import rule_named
 from orderless.moves import all_moves
 from orderless.orders import next_rules, prefixes_by_length, rule_names, with_rule
 from orderless.rules import behind
-from orderless.states import all_states, starts_of, state_number
+from orderless.states import start_list, state_list, state_number
 
 
 def run_states(program, state, *rules):
@@ -56,14 +56,14 @@ def outcomes_with(program, start):
 def is_settled(program):
     """Whether for each start all legal orders have the same result."""
     moves = all_moves(program)
-    states = list(all_states(program))
+    states = state_list(program)
     outcome_at = {rule_names(program): [shown_in(program, state) for state in states]}
     for prefix in prefixes_by_length(program)[::-1][1:]:
         after = [(moves[name], outcome_at[with_rule(prefix, name)]) for name in next_rules(program, prefix)]
         columns = [[outcomes[number] for number in numbers] for numbers, outcomes in after]
         outcome_at[prefix] = [_only_one(found) for found in zip(*columns)]
     outcomes = outcome_at[()]
-    return all([outcomes[state_number(program, start)] is not None for start in list(starts_of(program))])
+    return all([outcomes[state_number(program, start)] is not None for start in start_list(program)])
 
 
 def _only_one(outcomes):

@@ -16,8 +16,13 @@ def count_states(program):
 
 def all_states(program):
     """A generator of all states, ascending."""
-    for state in _combined(cell_ranges(program[0])):
+    for state in state_list(program):
         yield state
+
+
+def state_list(program):
+    """A list of all states, ascending: for properties, which must not run a generator."""
+    return _combined(cell_ranges(program[0]))
 
 
 def state_number(program, state):
@@ -60,10 +65,14 @@ def with_low_value(number, step, many):
 
 def starts_of(program):
     """A generator of all starts, ascending."""
+    for start in start_list(program):
+        yield start
+
+
+def start_list(program):
+    """A list of all starts, ascending: for properties, which must not run a generator."""
     cells, _, _, starts = program
-    for state in states_for_inputs(program):
-        if value_in(cells, state, starts) != 0:
-            yield state
+    return [state for state in states_for_inputs(program) if value_in(cells, state, starts) != 0]
 
 
 def states_for_inputs(program):

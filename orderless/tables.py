@@ -4,7 +4,7 @@ from orderless.errors import InvalidPaper
 from orderless.kinds import is_name, is_number
 from orderless.orders import next_rules, prefixes_of, rule_names, with_rule
 from orderless.running import shown_in
-from orderless.states import all_states, count_states, starts_of, state_number
+from orderless.states import count_states, start_list, state_list, state_number
 
 
 def is_table(thing):
@@ -51,7 +51,7 @@ def _check_arriving(program, moves, table):
         if numbers != tuple(sorted(set(numbers))) or not all([number < many for number in numbers]):
             raise InvalidPaper("numbers", k)
     numbers_at = {prefix: numbers for prefix, numbers in table}
-    if not _are_among([state_number(program, start) for start in list(starts_of(program))], numbers_at[()]):
+    if not _are_among([state_number(program, start) for start in start_list(program)], numbers_at[()]):
         raise InvalidPaper("starts", -1)
     for k, (prefix, numbers) in enumerate(table):
         for j, name in enumerate(next_rules(program, prefix)):
@@ -64,7 +64,7 @@ def _check_classes(program, moves, table):
         if len(marks) != count_states(program):
             raise InvalidPaper("marks", k)
     marks_at = {prefix: marks for prefix, marks in table}
-    shown = [shown_in(program, state) for state in list(all_states(program))]
+    shown = [shown_in(program, state) for state in state_list(program)]
     if not _are_kept(marks_at[rule_names(program)], shown):
         raise InvalidPaper("shown", -1)
     for k, (prefix, marks) in enumerate(table):

@@ -4,7 +4,8 @@ from itertools import combinations, permutations
 from types import GeneratorType
 
 from orderless.orders import (
-    exchanges_of, first_order, is_before, is_legal, legal_orders, next_rules, pairs_closed, prefixes_of, unordered_pairs)
+    exchange_list, exchanges_of, first_order, is_before, is_legal, legal_orders, next_rules, pairs_closed, prefixes_by_length,
+    prefixes_of, unordered_pairs)
 from tests.samples import ADD, CELLS, CHAIN, FREE, NOTHING, ODD_VALUES, PAIRED, PROG, Case, chance_of, free_rules
 from tests.slowly import Slowly, with_pairs
 
@@ -137,6 +138,15 @@ class OrdersTest(Case):
     def test_generators(self):
         self.assertIsInstance(legal_orders(PROG), GeneratorType)
         self.assertIsInstance(exchanges_of(PROG), GeneratorType)
+
+    def test_lists(self):
+        for program in list(some_pairs(2, 20)) + [PROG, PAIRED, CHAIN, NOTHING, DIAMOND]:
+            right = list(exchanges_of(program))
+            self.same([right, exchange_list(program)], [sorted(right), right])
+            exchange_list(program).append(None)
+            self.same(exchange_list(program), right)
+            by_length = sorted(prefixes_of(program), key=lambda prefix: (len(prefix), prefix))
+            self.same(prefixes_by_length(program), by_length)
 
     def test_generators_walked_in_one_another(self):
         for function in (legal_orders, exchanges_of):

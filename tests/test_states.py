@@ -4,7 +4,8 @@ from itertools import product
 
 from orderless.cells import cell_ranges
 from orderless.errors import InvalidInput, UnknownCell
-from orderless.states import all_states, count_states, is_start, start_of, starts_of, state_at, state_number
+from orderless.states import (
+    all_states, count_states, is_start, start_list, start_of, starts_of, state_at, state_list, state_number)
 from tests.samples import CELLS, MIXED, ODD_VALUES, PROG, TABLE, Case
 
 EMPTY = ((), (), (), 1)
@@ -53,6 +54,15 @@ class NumbersTest(Case):
         self.assertEqual(len(set(pairs)), 16)
         one, other = all_states(PROG), all_states(PROG)
         self.same([next(one), next(one), next(other), next(one)], [(0, 0), (0, 1), (0, 0), (0, 2)])
+
+
+    def test_lists(self):
+        for program in PROGRAMS:
+            for listed, made in ((state_list, all_states), (start_list, starts_of)):
+                right = list(made(program))
+                self.same(listed(program), right)
+                listed(program).append(None)
+                self.same([listed(program), list(made(program))], [right, right])
 
 
 class StartsTest(Case):
